@@ -1,0 +1,1 @@
+"""The opening: private firms for told worths."""
