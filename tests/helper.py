@@ -1,8 +1,9 @@
 """What the tests share: calls written by name, and the document's words worked out the long way."""
 
 import random
+import unittest
 from functools import lru_cache
-from itertools import product
+from itertools import combinations, product
 
 from toldworths.table import answers
 
@@ -14,6 +15,12 @@ BEST = [6]
 PRICES = [8]
 GREATEST = [9]
 GAINS = [10]
+CLOCK = [14]
+RESTART = [16]
+EQUALS = [20]
+
+NO_MONEY = (-FAR, -BILLION, -1, BILLION + 1, FAR)
+NO_PLAYER_OF_2 = (-FAR, -BILLION, -2, -1, 0, 3, 4, FAR)
 
 
 def begin(n, m):
@@ -38,6 +45,34 @@ def look(p):
 
 def given(firms):
     return [7, len(firms)] + list(firms)
+
+
+def competitive(some):
+    return [11, len(some)] + list(some)
+
+
+def demand(p, some):
+    return [12, p, len(some)] + list(some)
+
+
+def over(some):
+    return [13, len(some)] + list(some)
+
+
+def tick(k):
+    return [15, k]
+
+
+def without(p):
+    return [17, p]
+
+
+def lie(p, worths):
+    return [18, p, len(worths)] + list(worths)
+
+
+def burden(p):
+    return [19, p]
 
 
 def line_of(calls):
@@ -105,6 +140,26 @@ def kept(calls, n, m):
     return worths, bases
 
 
+def all_kept(calls, n, m):
+    """Answers by which all is known that is kept behind these calls, the clock too."""
+    return ask(*calls, *looks(n, m), CLOCK)[len(calls):]
+
+
+class AskedOf2And3(unittest.TestCase):
+    """What is asked of a table of 2 players and 3 firms whose clock has been moved."""
+
+    BASES = [1, 2, 3]
+    WORTHS = [[10, 20, 30], [40, 50, 60]]
+    TABLE = laid(BASES, WORTHS) + [tick(5)]
+    KEPT = WORTHS + [[9], [18], [27]] + [[1, 2, 8]]
+
+    def asked(self, call, answer):
+        """The call is answered like this, and nothing has changed behind it."""
+        with self.subTest(call=call):
+            self.assertEqual(last(*self.TABLE, call), answer)
+            self.assertEqual(all_kept(self.TABLE + [call], 2, 3), self.KEPT)
+
+
 @lru_cache(maxsize=None)
 def assignments(n, m):
     """Every assignment, the first in the document's order first."""
@@ -150,22 +205,79 @@ def told_greatest(bases, worths):
     return found
 
 
+def told_gain(worths_of, prices, i):
+    return worths_of[i - 1] - prices[i - 1] if i else 0
+
+
 def told_gains(bases, worths):
     prices = told_prices(bases, worths)
     firms = told_best(bases, worths)[1:]
-    return [worths[p][i - 1] - prices[i - 1] if i else 0 for p, i in enumerate(firms)]
+    return [told_gain(worths_of, prices, i) for worths_of, i in zip(worths, firms)]
+
+
+def told_greatest_gain(worths_of, prices):
+    return max(told_gain(worths_of, prices, i) for i in range(len(prices) + 1))
+
+
+def told_demand(worths_of, prices):
+    most = told_greatest_gain(worths_of, prices)
+    firms = [i for i in range(1, len(prices) + 1) if told_gain(worths_of, prices, i) == most]
+    return [most, len(firms)] + firms
 
 
 def told_competitive(bases, worths, prices):
     if any(price < v for price, v in zip(prices, bases)):
         return False
+    most = [told_greatest_gain(worths_of, prices) for worths_of in worths]
+    above = [i for i, v in enumerate(bases, 1) if prices[i - 1] != v]
     for firms in assignments(len(worths), len(bases)):
-        content = all(
-            (worths_of[i - 1] - prices[i - 1] if i else 0)
-            == max([0] + [v - price for v, price in zip(worths_of, prices)])
-            for worths_of, i in zip(worths, firms)
-        )
-        left = [i for i in range(1, len(bases) + 1) if i not in firms]
-        if content and all(prices[i - 1] == bases[i - 1] for i in left):
+        content = all(told_gain(worths[p], prices, i) == most[p] for p, i in enumerate(firms))
+        if content and all(i in firms for i in above):
             return True
     return False
+
+
+def told_over(worths, prices):
+    demands = [told_demand(worths_of, prices) for worths_of in worths]
+    for size in range(1, len(prices) + 1):
+        for some in combinations(range(1, len(prices) + 1), size):
+            into = [firms for most, count, *firms in demands if most > 0 and set(firms) <= set(some)]
+            if len(into) > size:
+                return [size] + list(some)
+    return [0]
+
+
+def told_tick(worths, clock, k):
+    """How many rounds are made, then the prices behind them."""
+    prices = list(clock)
+    for made in range(k):
+        some = told_over(worths, prices)[1:]
+        if not some:
+            return [made] + prices
+        prices = [price + (i in some) for i, price in enumerate(prices, 1)]
+    return [k] + prices
+
+
+def told_without(bases, worths, p):
+    every = assignments(len(worths), len(bases))
+    return max(told_win(bases, worths, firms) for firms in every if not firms[p - 1])
+
+
+def told_burden(bases, worths, p):
+    firms = told_best(bases, worths)[1:]
+    firms[p - 1] = 0
+    return told_without(bases, worths, p) - told_win(bases, worths, firms)
+
+
+def told_lie(bases, worths, p, told):
+    true = worths[p - 1]
+    gains = []
+    for worths_of in (told, true):
+        table = worths[:p - 1] + [worths_of] + worths[p:]
+        gains.append(told_gain(true, told_prices(bases, table), told_best(bases, table)[p]))
+    return gains
+
+
+def told_equals(bases, worths):
+    wins = [told_win(bases, worths, firms) for firms in assignments(len(worths), len(bases))]
+    return wins.count(max(wins))

@@ -1,10 +1,12 @@
-"""The total, the best assignment, and what a given one wins."""
+"""The total, the best assignment, what a given one wins, and how many win the total."""
 
 import unittest
+from math import comb, factorial
 
 from tests.helper import (
-    BEST, BILLION, FAR, TOTAL,
-    ask, assignments, base, begin, given, laid, last, of_table, row, tables, told_best, told_total, told_win, worth,
+    BEST, BILLION, EQUALS, FAR, TOTAL, AskedOf2And3,
+    ask, assignments, base, begin, given, laid, last, of_table, row, tables, told_best, told_equals, told_total,
+    told_win, worth,
 )
 
 
@@ -158,6 +160,57 @@ class Given(unittest.TestCase):
         for bases, worths in tables(6, 30, 30):
             best = of_table(bases, worths, BEST)
             self.assertEqual(of_table(bases, worths, given(best[1:])), best[:1])
+
+
+class Equals(AskedOf2And3):
+    def test_ordinary_and_nothing_changes(self):
+        self.asked(EQUALS, [2])
+
+    def test_one_player_one_firm(self):
+        self.assertEqual(last(EQUALS), [2])
+        self.assertEqual(of_table([3], [[7]], EQUALS), [1])
+        self.assertEqual(of_table([7], [[7]], EQUALS), [2])
+        self.assertEqual(of_table([8], [[7]], EQUALS), [1])
+
+    def test_ties(self):
+        self.assertEqual(of_table([0, 0], [[5, 5]], EQUALS), [2])
+        self.assertEqual(of_table([0], [[5], [5], [4]], EQUALS), [2])
+        self.assertEqual(of_table([0, 0], [[2, 1], [2, 1]], EQUALS), [2])
+        self.assertEqual(of_table([0, 0], [[5, 5], [6, 5]], EQUALS), [1])
+
+    def test_a_firm_that_wins_just_0_may_be_given_or_not(self):
+        self.assertEqual(of_table([0, 0], [[5, 0], [5, 0]], EQUALS), [4])
+        self.assertEqual(of_table([4, 7], [[3, 7]], EQUALS), [2])
+        self.assertEqual(of_table([0, 9], [[5, 0], [0, 0]], EQUALS), [1])
+
+    def test_none_at_all_is_among_them(self):
+        self.assertEqual(of_table([8, 9], [[7, 2], [8, 1], [1, 1]], EQUALS), [2])
+        self.assertEqual(of_table([9, 9], [[7, 2], [8, 1], [1, 1]], EQUALS), [1])
+        self.assertEqual(last(begin(2, 2), EQUALS), [7])
+
+    def test_all_worths_alike(self):
+        for n in range(1, 6):
+            for m in range(1, 7):
+                few = min(n, m)
+                every = [comb(n, k) * comb(m, k) * factorial(k) for k in range(few + 1)]
+                table = laid([5] * m, [[5] * m] * n)
+                above = [row(p, [6] * m) for p in range(1, n + 1)]
+                below = [row(p, [4] * m) for p in range(1, n + 1)]
+                told = ask(*table, EQUALS, *above, EQUALS, *below, EQUALS)
+                with self.subTest(n=n, m=m):
+                    self.assertEqual(told[len(table)::n + 1], [[sum(every)], [every[few]], [1]])
+
+    def test_ends_of_the_range(self):
+        self.assertEqual(of_table([0] * 6, [[BILLION] * 6] * 5, EQUALS), [720])
+        self.assertEqual(of_table([BILLION] * 6, [[BILLION] * 6] * 5, EQUALS), [4051])
+        self.assertEqual(of_table([0] * 6, [[0] * 6] * 5, EQUALS), [4051])
+        self.assertEqual(of_table([BILLION] * 6, [[0] * 6] * 5, EQUALS), [1])
+
+    def test_by_the_words(self):
+        for seed, top in enumerate((1, 1, 2, 3, 20, BILLION)):
+            for bases, worths in tables(seed + 190, top, top):
+                with self.subTest(bases=bases, worths=worths):
+                    self.assertEqual(of_table(bases, worths, EQUALS), [told_equals(bases, worths)])
 
 
 if __name__ == "__main__":

@@ -2,11 +2,12 @@
 
 import unittest
 
-from tests.helper import BEST, BILLION, FAR, GREATEST, PRICES, ask, base, begin, kept, last, look, row, worth
+from tests.helper import (
+    BEST, BILLION, FAR, GREATEST, NO_MONEY, NO_PLAYER_OF_2, PRICES,
+    ask, base, begin, kept, last, look, row, worth,
+)
 
-NO_PLAYER_OF_2 = (-FAR, -BILLION, -2, -1, 0, 3, 4, FAR)
 NO_FIRM_OF_3 = (-FAR, -BILLION, -3, -2, -1, 0, 4, 5, FAR)
-NO_MONEY = (-FAR, -BILLION, -1, BILLION + 1, FAR)
 
 TABLE = [begin(2, 3), base(1, 1), base(2, 2), base(3, 3), row(1, [10, 20, 30]), row(2, [40, 50, 60])]
 WORTHS = [[10, 20, 30], [40, 50, 60]]
